@@ -1,0 +1,1 @@
+"""Gapwork: programs run ahead of being written to the end."""

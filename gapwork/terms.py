@@ -1,0 +1,63 @@
+"""Kinds and terms: what is in them and how deep they are.
+
+Nothing here calls itself, as kinds that are found and programs that are filled may be very deep.
+"""
+
+# Where the terms right in a term stand in its tuple, of the forms that bind no names.
+PLACES = {
+    "num": (), "name": (), "gap": (), "op": (2, 3), "more": (1, 2),
+    "first": (1,), "others": (1,), "long": (1,), "if": (1, 2, 3),
+}
+
+# Where the tuple of terms stands, of the forms that have as many as they like.
+PLACE_OF_MANY = {"row": 1, "tag": 2, "call": 2}
+
+
+def kind_deep(kind):
+    """Tells how deep a kind is."""
+    depth = 0
+    while kind[0] == "row":
+        kind = kind[1]
+        depth += 1
+    return depth
+
+
+def right_in(term):
+    """Tells the terms right in a term, in order, as pairs: the names that it binds there, the inner term."""
+    form = term[0]
+    if form == "match":
+        return [((), term[1])] + [(names, inner) for tag, names, inner in term[2]]
+    if form == "let":
+        return [((), term[2]), ((term[1],), term[3])]
+    if form == "fold":
+        return [((), term[1]), ((), term[4]), ((term[2], term[3]), term[5])]
+    if form in PLACE_OF_MANY:
+        return [((), inner) for inner in term[PLACE_OF_MANY[form]]]
+    return [((), term[place]) for place in PLACES[form]]
+
+
+def parts(term):
+    """Tells a list of all terms in a term, itself first, in the order in which they stand."""
+    told = []
+    waiting = [term]
+    while waiting:
+        here = waiting.pop()
+        told.append(here)
+        waiting.extend([inner for names, inner in right_in(here)][::-1])
+    return told
+
+
+def deep(term):
+    """Tells how deep a term is."""
+    deepest = 0
+    waiting = [(0, term)]
+    while waiting:
+        depth, here = waiting.pop()
+        deepest = max(deepest, depth)
+        waiting.extend([(depth + 1, inner) for names, inner in right_in(here)])
+    return deepest
+
+
+def gaps_in(term):
+    """Tells a list of the numbers of the gaps in a term, in order, each as often as it stands."""
+    return [part[1] for part in parts(term) if part[0] == "gap"]
