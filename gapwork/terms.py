@@ -22,6 +22,13 @@ def kind_deep(kind):
     return depth
 
 
+def innermost(kind):
+    """Tells the kind within all rows of a kind."""
+    while kind[0] == "row":
+        kind = kind[1]
+    return kind
+
+
 def right_in(term):
     """Tells the terms right in a term, in order, as pairs: the names that it binds there, the inner term."""
     form = term[0]
