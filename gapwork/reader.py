@@ -161,9 +161,9 @@ def param_of(item):
 
 
 def read_kind_row(row):
-    """Tells the kind of a program that a row is."""
+    """Tells the kind of a program that a row, with the word kind first, is."""
     items = scanned(row, kept_list)
-    if len(items) < 3 or items[0] != "kind":
+    if len(items) < 3:
         raise BadText(0)
     return (name_of(items[1]), tuple([tag_of(item) for item in items[2:]]))
 

@@ -1,4 +1,4 @@
-"""What the tests share: makers of kinds, terms, programs and things by seeds, and a slow second way to what is asked."""
+"""What the tests share: makers of kinds, terms, programs, things by seeds, and a slow second way to what is asked."""
 
 import random
 import re

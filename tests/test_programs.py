@@ -1,5 +1,6 @@
 import unittest
 
+from gapwork.errors import NoGap
 from gapwork.programs import at_hand, gaps
 from tests.helper import make_program, make_term, seeded, slow_inner, slow_parts
 
@@ -130,6 +131,11 @@ class AtHand(unittest.TestCase):
         for n, names in ((0, ["a"]), (5, ["b", "a"]), (2, [])):
             self.tell(((), defs), n, names)
 
+    def test_a_gap_that_is_not_there(self):
+        with self.assertRaises(NoGap) as taken:
+            at_hand(one_def(["a"], G[0]), 1)
+        self.assertEqual(taken.exception.number, 1)
+
     def test_by_seeds(self):
         rand = seeded(32)
         for k in range(300):
@@ -142,7 +148,8 @@ class AtHand(unittest.TestCase):
         rand = seeded(33)
         orders = set()
         for k in range(1000):
-            term = make_term(rand, rand.randint(1, 40), forms=("let", "match", "fold", "gap", "gap", "row"), names="abcd")
+            forms = ("let", "match", "fold", "gap", "gap", "row")
+            term = make_term(rand, rand.randint(1, 40), forms=forms, names="abcd")
             program = one_def("abc"[:rand.randrange(4)], term)
             for n in gaps(program)[0]:
                 wanted = slow_at_hand(program, n)
