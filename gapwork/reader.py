@@ -2,7 +2,7 @@
 
 from gapwork.brackets import scanned, scanned_one
 from gapwork.errors import BadText
-from gapwork.terms import innermost
+from gapwork.terms import in_rows, innermost
 from gapwork.words import is_figures, is_name
 
 OPS = ("+", "-", "*", ":", "<", "=")
@@ -59,10 +59,7 @@ def kind_of(item):
             raise BadText(0)
         item = item[1]
         depth += 1
-    kind = core_of(item)
-    for row in range(depth):
-        kind = ("row", kind)
-    return kind
+    return in_rows(core_of(item), depth)
 
 
 def read_kind(text):

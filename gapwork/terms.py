@@ -29,6 +29,13 @@ def innermost(kind):
     return kind
 
 
+def in_rows(kind, depth):
+    """Tells the row of a kind, or the row of that, and so on: as many rows as depth says."""
+    for row in range(depth):
+        kind = ("row", kind)
+    return kind
+
+
 def right_in(term):
     """Tells the terms right in a term, in order, as pairs: the names that it binds there, the inner term."""
     form = term[0]

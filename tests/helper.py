@@ -3,6 +3,8 @@
 import random
 import re
 
+from gapwork.errors import GapError
+
 KEPT = "num row kind def more first others long match if let fold call gap in world fault left".split()
 NAMES = ("a", "b", "x", "y", "zz", "abcdef", "op", "tag", "name", "any", "to", "nums", "ifs", "lef", "defs")
 OPS = "+-*:<="
@@ -311,3 +313,378 @@ def rows_otherwise(rand, text):
     others = ["", half, rows[at], "kind k (a)", "kind k", "kind k (a ?0)", "kind k (a (row '1))", "def f = 1", "def f",
               "def f (x '0) = 1", "def f (x (row ?1)) = ?1", "def f (x) = 1", "def f (x num num) = 1", "def num = 1"]
     return "\n".join(without_or_with(rand, rows, others))
+
+
+def outcome(deed, *given):
+    """What a function tells, or the class of its refusal and what that one bears."""
+    try:
+        return ("told", deed(*given))
+    except GapError as error:
+        return (type(error).__name__, *vars(error).values())
+
+
+RIGHT_NAMES = ("x", "y", "z", "acc")
+
+
+class Maker:
+    """Makes programs that are let by, of right kinds by the way in which they are made, with gaps here and there."""
+
+    def __init__(self, rand, size=25, gap=0.1, most_gaps=5):
+        self.rand = rand
+        self.gap = gap
+        self.size = size
+        self.free_gaps = rand.sample(range(100), most_gaps)
+        self.kinds = []
+        self.tags = {}
+        self.defs = []
+
+    def any_kind(self, most=2):
+        return rows_of(self.rand.choice(["num", "num"] + [("kind", name) for name, tags in self.kinds]),
+                       self.rand.randint(0, most))
+
+    def make_kinds(self, many):
+        pool = ["t", "u", "v", "w", "tt", "uu", "vv", "ww", "x"]
+        for name in self.rand.sample(["k", "l", "x", "f"], many):
+            tags = [(pool.pop(0), tuple(self.any_kind(1) for part in range(self.rand.randrange(3))))
+                    for tag in range(self.rand.randint(1, 3))]
+            self.kinds.append((name, tuple(tags)))
+            self.tags.update({tag: parts for tag, parts in tags})
+
+    def leaf(self, kind, env):
+        """A term without a choice left but of names; of some kinds tags with terms."""
+        names = [name for name, known in env.items() if known == kind]
+        if names and self.rand.random() < 0.8:
+            return ("name", self.rand.choice(names))
+        if kind == "num":
+            return ("num", self.rand.choice((0, 0, 1, 2, 3, 999999)))
+        if kind[0] == "row":
+            return ("row", ())
+        tag, parts = self.rand.choice(dict(self.kinds)[kind[1]])
+        return ("tag", tag, tuple(self.leaf(part, env) for part in parts))
+
+    def forms(self, kind):
+        found = ["if", "let", "first", "fold", "match", "call"]
+        if kind == "num":
+            found += ["op", "op", "op", "long"]
+        elif kind[0] == "row":
+            found += ["row", "row", "more", "more", "others"]
+        else:
+            found += ["tag", "tag"]
+        return found
+
+    def term(self, kind, env, fuel):
+        if self.free_gaps and self.rand.random() < self.gap:
+            return ("gap", self.free_gaps.pop())
+        if fuel < 4:
+            return self.leaf(kind, env)
+        form = self.rand.choice(self.forms(kind))
+        if form == "match" and not self.kinds:
+            form = "let"
+        fitting = [(name, params) for name, params, told in self.defs if told == kind]
+        if form == "call" and not fitting:
+            form = "if"
+        elif fitting and self.rand.random() < 0.3:
+            form = "call"
+        less = fuel // 2
+        if form == "if":
+            return ("if", self.term("num", env, less // 2), self.term(kind, env, less), self.term(kind, env, less))
+        if form == "let":
+            name, inner = self.rand.choice(RIGHT_NAMES), self.any_kind()
+            return ("let", name, self.term(inner, env, less), self.term(kind, {**env, name: inner}, less))
+        if form == "first":
+            return ("first", self.term(("row", kind), env, fuel - 1))
+        if form == "fold":
+            (x, y), inner = self.rand.sample(RIGHT_NAMES, 2), self.any_kind(1)
+            return ("fold", self.term(("row", inner), env, less), x, y, self.term(kind, env, less // 2),
+                    self.term(kind, {**env, x: inner, y: kind}, less))
+        if form == "match":
+            name, tags = self.rand.choice(self.kinds)
+            arms = []
+            for tag, parts in self.rand.sample(tags, len(tags)):
+                names = tuple(self.rand.sample(RIGHT_NAMES, len(parts)))
+                arms.append((tag, names, self.term(kind, {**env, **dict(zip(names, parts))}, less // len(tags))))
+            return ("match", self.term(("kind", name), env, less), tuple(arms))
+        if form == "call":
+            name, params = self.rand.choice(fitting)
+            return ("call", name, tuple(self.term(param, env, less) for param in params))
+        if form == "op":
+            return ("op", self.rand.choice(OPS), self.term("num", env, less), self.term("num", env, less))
+        if form == "long":
+            return ("long", self.term(("row", self.any_kind(1)), env, fuel - 1))
+        if form == "row":
+            many = self.rand.randrange(4)
+            return ("row", tuple(self.term(kind[1], env, fuel // (many + 1)) for k in range(many)))
+        if form == "more":
+            return ("more", self.term(kind[1], env, less), self.term(kind, env, less))
+        if form == "others":
+            return ("others", self.term(kind, env, fuel - 1))
+        tag, parts = self.rand.choice(dict(self.kinds)[kind[1]])
+        return ("tag", tag, tuple(self.term(part, env, less) for part in parts))
+
+    def program(self, kinds=None, defs=None):
+        rand = self.rand
+        self.make_kinds(rand.randrange(4) if kinds is None else kinds)
+        made = []
+        for name in rand.sample(["f", "g", "x", "k"], rand.randint(1, 3) if defs is None else defs):
+            params = [(x, self.any_kind()) for x in rand.sample(RIGHT_NAMES, rand.randrange(4))]
+            kind = self.any_kind()
+            made.append((name, tuple(params), self.term(kind, dict(params), rand.randint(1, self.size))))
+            self.defs.append((name, [known for x, known in params], kind))
+        return (tuple(self.kinds), tuple(made))
+
+
+def opened(rand, program, most=3):
+    """The program with open kinds put in the place of kinds of params, or of what is within their rows."""
+    free = rand.sample(range(100), most)
+    defs = []
+    for name, params, term in program[1]:
+        others = []
+        for x, kind in params:
+            depth = 0
+            while kind[0] == "row" and rand.randrange(2):
+                kind = kind[1]
+                depth += 1
+            if free and rand.randrange(2):
+                kind = ("open", free.pop())
+            others.append((x, rows_of(kind, depth)))
+        defs.append((name, tuple(others), term))
+    return (program[0], tuple(defs))
+
+
+def within_bounds(program):
+    """Whether a program has terms of the bounds that programs handed in keep to."""
+    return all(len(slow_parts(term)) <= 40 and slow_deep(term) <= 9 for name, params, term in program[1])
+
+
+def right_programs(seed, many, size=25, gap=0.1, opens=True):
+    """Programs that are let by, within the bounds."""
+    rand = seeded(seed)
+    told = []
+    while len(told) < many:
+        program = Maker(rand, size, gap).program()
+        if opens:
+            program = opened(rand, program)
+        if within_bounds(program):
+            told.append(program)
+    return told
+
+
+def texts_in(thing):
+    """All texts that stand in tuples within one another, in order, each as often as it stands."""
+    if isinstance(thing, str):
+        return [thing]
+    if isinstance(thing, tuple):
+        return [text for inner in thing for text in texts_in(inner)]
+    return []
+
+
+def renamed(program, deed):
+    """The program with each name as the deed tells it of its sort (kind, tag, def, name) and itself."""
+    def kind(here):
+        if here[0] == "row":
+            return ("row", kind(here[1]))
+        return ("kind", deed("kind", here[1])) if here[0] == "kind" else here
+
+    def name(x):
+        return deed("name", x)
+
+    def term(here):
+        form = here[0]
+        if form == "name":
+            return ("name", name(here[1]))
+        if form in ("tag", "call"):
+            sort = "tag" if form == "tag" else "def"
+            return (form, deed(sort, here[1]), tuple(term(inner) for inner in here[2]))
+        if form == "row":
+            return ("row", tuple(term(inner) for inner in here[1]))
+        if form == "match":
+            arms = [(deed("tag", tag), tuple(name(x) for x in names), term(inner)) for tag, names, inner in here[2]]
+            return ("match", term(here[1]), tuple(arms))
+        if form == "let":
+            return ("let", name(here[1]), term(here[2]), term(here[3]))
+        if form == "fold":
+            return ("fold", term(here[1]), name(here[2]), name(here[3]), term(here[4]), term(here[5]))
+        return tuple(term(inner) if isinstance(inner, tuple) else inner for inner in here)
+
+    kinds = [(deed("kind", k), tuple((deed("tag", t), tuple(kind(part) for part in parts)) for t, parts in tags))
+             for k, tags in program[0]]
+    defs = [(deed("def", f), tuple((name(x), kind(known)) for x, known in params), term(body))
+            for f, params, body in program[1]]
+    return (tuple(kinds), tuple(defs))
+
+
+def slow_filled(program, terms, kinds):
+    """The program with gaps and open kinds put, by dicts, at all their places."""
+    def kind(here):
+        if here[0] == "row":
+            return ("row", kind(here[1]))
+        return kinds.get(here[1], here) if here[0] == "open" else here
+
+    def go(here):
+        if not isinstance(here, tuple):
+            return here
+        if here and here[0] == "gap":
+            return terms.get(here[1], here)
+        return tuple(go(inner) for inner in here)
+
+    return (program[0], tuple((name, tuple((x, kind(known)) for x, known in params), go(term))
+                              for name, params, term in program[1]))
+
+
+def exact_term(program, kind):
+    """A term without names, calls, gaps that has this kind and no other one."""
+    if kind == "num":
+        return ("num", 0)
+    if kind[0] == "row":
+        return ("row", (exact_term(program, kind[1]),))
+    tag, parts = dict(program[0])[kind[1]][0]
+    return ("tag", tag, tuple(exact_term(program, part) for part in parts))
+
+
+class SlowKinds:
+    """Kinds found from below, with kinds as they are told; letters are numbers, and what is put is put everywhere."""
+
+    def __init__(self):
+        self.put = {}
+        self.many = 0
+
+    def letter(self):
+        self.many += 1
+        return ("any", self.many - 1)
+
+    def settled(self, kind):
+        if kind[0] == "row":
+            return ("row", self.settled(kind[1]))
+        if kind[0] == "any" and kind[1] in self.put:
+            return self.settled(self.put[kind[1]])
+        return kind
+
+    def join(self, one, other):
+        """Whether two kinds could be made the same."""
+        one, other = self.settled(one), self.settled(other)
+        if one == other:
+            return True
+        if one[0] == "any":
+            if one in self.layers(other):
+                return False
+            self.put[one[1]] = other
+            return True
+        if other[0] == "any":
+            return self.join(other, one)
+        return one[0] == other[0] == "row" and self.join(one[1], other[1])
+
+    def layers(self, kind):
+        return [kind] + (self.layers(kind[1]) if kind[0] == "row" else [])
+
+    def lettered(self, kinds):
+        """Kinds with letters from 0 on as they come up."""
+        numbers = {}
+
+        def go(kind):
+            if kind[0] == "row":
+                return ("row", go(kind[1]))
+            return ("any", numbers.setdefault(kind[1], len(numbers))) if kind[0] == "any" else kind
+
+        return [go(self.settled(kind)) for kind in kinds]
+
+
+class Wrong(Exception):
+    """Kinds that can't be the same."""
+
+
+class SlowFinder:
+    def __init__(self, program):
+        self.kinds = SlowKinds()
+        self.tags = {tag: (("kind", k), parts) for k, own in program[0] for tag, parts in own}
+        self.gaps, self.opens, self.defs = {}, {}, {}
+        for name, params, term in program[1]:
+            known = [(x, self.without_open(kind)) for x, kind in params]
+            self.defs[name] = ([kind for x, kind in known], self.kind(term, known))
+        self.last = self.defs[program[1][-1][0]]
+
+    def without_open(self, kind):
+        if kind[0] == "row":
+            return ("row", self.without_open(kind[1]))
+        if kind[0] == "open":
+            self.opens[kind[1]] = self.kinds.letter()
+            return self.opens[kind[1]]
+        return kind
+
+    def same(self, one, *others):
+        for other in others:
+            if not self.kinds.join(one, other):
+                raise Wrong()
+        return one
+
+    def row(self, kind):
+        inner = self.kinds.letter()
+        self.same(kind, ("row", inner))
+        return inner
+
+    def kind(self, term, known):
+        def of(inner, *more):
+            return self.kind(inner, known + list(more))
+
+        form = term[0]
+        if form == "num":
+            return "num"
+        if form == "name":
+            return [kind for x, kind in known if x == term[1]][-1]
+        if form == "op":
+            return self.same("num", of(term[2]), of(term[3]))
+        if form == "row":
+            return ("row", self.same(self.kinds.letter(), *[of(inner) for inner in term[1]]))
+        if form == "more":
+            return self.same(of(term[2]), ("row", of(term[1])))
+        if form == "first":
+            return self.row(of(term[1]))
+        if form == "others":
+            return ("row", self.row(of(term[1])))
+        if form == "long":
+            self.row(of(term[1]))
+            return "num"
+        if form == "tag":
+            kind, parts = self.tags[term[1]]
+            for inner, part in zip(term[2], parts):
+                self.same(of(inner), part)
+            return kind
+        if form == "match":
+            self.same(of(term[1]), self.tags[term[2][0][0]][0])
+            arms = [of(inner, *zip(names, self.tags[tag][1])) for tag, names, inner in term[2]]
+            return self.same(*arms)
+        if form == "if":
+            self.same("num", of(term[1]))
+            return self.same(of(term[2]), of(term[3]))
+        if form == "let":
+            return of(term[3], (term[1], of(term[2])))
+        if form == "fold":
+            inner = self.row(of(term[1]))
+            told = of(term[4])
+            return self.same(told, of(term[5], (term[2], inner), (term[3], told)))
+        if form == "call":
+            params, told = self.defs[term[1]]
+            for inner, param in zip(term[2], params):
+                self.same(of(inner), param)
+            return told
+        names = {x: kind for x, kind in known}
+        order = [x for k, (x, kind) in enumerate(known) if x not in [y for y, other in known[k + 1:]]]
+        self.gaps[term[1]] = ([(x, names[x]) for x in order], self.kinds.letter())
+        return self.gaps[term[1]][1]
+
+
+def slow_all_kinds(program):
+    """Gaps' kinds, open kinds, the last def's kinds; None where they aren't right."""
+    try:
+        found = SlowFinder(program)
+    except Wrong:
+        return None
+    numbers, opens = sorted(found.gaps), sorted(found.opens)
+    flat = [kind for n in numbers for kind in [k for x, k in found.gaps[n][0]] + [found.gaps[n][1]]]
+    flat = found.kinds.lettered(flat + [found.opens[n] for n in opens])
+    gaps = {}
+    for n in numbers:
+        names = [x for x, kind in found.gaps[n][0]]
+        gaps[n] = (tuple(zip(names, flat)), flat[len(names)])
+        flat = flat[len(names) + 1:]
+    *params, told = found.kinds.lettered(found.last[0] + [found.last[1]])
+    return gaps, dict(zip(opens, flat)), (tuple(params), told)
