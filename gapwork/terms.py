@@ -50,6 +50,24 @@ def right_in(term):
     return [((), term[place]) for place in PLACES[form]]
 
 
+def with_inner(term, inner):
+    """Tells a term with other terms, in order, in the place of those right in it."""
+    form = term[0]
+    if form == "match":
+        arms = [(tag, names, told) for (tag, names, old), told in zip(term[2], inner[1:])]
+        return ("match", inner[0], tuple(arms))
+    if form == "let":
+        return ("let", term[1], inner[0], inner[1])
+    if form == "fold":
+        return ("fold", inner[0], term[2], term[3], inner[1], inner[2])
+    if form in PLACE_OF_MANY:
+        return term[:PLACE_OF_MANY[form]] + (tuple(inner),)
+    told = list(term)
+    for place, each in zip(PLACES[form], inner):
+        told[place] = each
+    return tuple(told)
+
+
 def parts(term):
     """Tells a list of all terms in a term, itself first, in the order in which they stand."""
     told = []
@@ -75,3 +93,21 @@ def deep(term):
 def gaps_in(term):
     """Tells a list of the numbers of the gaps in a term, in order, each as often as it stands."""
     return [part[1] for part in parts(term) if part[0] == "gap"]
+
+
+def with_gaps_put(term, puts):
+    """Tells a term with terms, by a dict from gaps' numbers, in the place of gaps; what is put isn't gone into."""
+    told = []
+    waiting = [(term, False)]
+    while waiting:
+        here, inner_told = waiting.pop()
+        inner = [part for names, part in right_in(here)]
+        if here[0] == "gap":
+            told.append(puts.get(here[1], here))
+        elif inner_told:
+            first = len(told) - len(inner)
+            told[first:] = [with_inner(here, told[first:])]
+        else:
+            waiting.append((here, True))
+            waiting.extend([(part, False) for part in inner[::-1]])
+    return told[0]

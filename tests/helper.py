@@ -688,3 +688,161 @@ def slow_all_kinds(program):
         flat = flat[len(names) + 1:]
     *params, told = found.kinds.lettered(found.last[0] + [found.last[1]])
     return gaps, dict(zip(opens, flat)), (tuple(params), told)
+
+
+def make_of(rand, program, kind, size=5):
+    """A closed thing of a kind."""
+    if kind == "num":
+        return ("num", rand.choice((0, 1, 2, 3, 999999, rand.randrange(1000000))))
+    if kind[0] == "row":
+        many = rand.randrange(min(size, 4) + 1)
+        return ("row", tuple(make_of(rand, program, kind[1], size // 2) for k in range(many)))
+    tag, parts = rand.choice(dict(program[0])[kind[1]])
+    return ("tag", tag, tuple(make_of(rand, program, part, size // 2) for part in parts))
+
+
+class SlowFault(Exception):
+    """A fault of a run."""
+
+
+class SlowTooLong(Exception):
+    """More doings than were let."""
+
+
+class SlowRun:
+    """A run by recursion, with what is at hand as a list of pairs, the nearest last."""
+
+    def __init__(self, program, most):
+        self.defs = {f: (params, term) for f, params, term in program[1]}
+        self.most = most
+        self.many = 0
+        self.rows = []
+
+    def doing(self):
+        if self.many == self.most:
+            raise SlowTooLong()
+        self.many += 1
+
+    def left(self, *row):
+        self.rows.append(row)
+        return ("left", len(self.rows) - 1)
+
+    def around(self, env):
+        return tuple((x, thing) for k, (x, thing) in enumerate(env) if x not in [y for y, other in env[k + 1:]])
+
+    def go(self, term, env):
+        return getattr(self, "go_" + term[0])(env, *term[1:])
+
+    def go_all(self, terms, env):
+        return tuple(self.go(term, env) for term in terms)
+
+    def go_num(self, env, n):
+        return ("num", n)
+
+    def go_name(self, env, name):
+        return next(thing for x, thing in env[::-1] if x == name)
+
+    def go_gap(self, env, n):
+        return self.left("gap", n, self.around(env))
+
+    def go_row(self, env, terms):
+        return ("row", self.go_all(terms, env))
+
+    def go_tag(self, env, tag, terms):
+        return ("tag", tag, self.go_all(terms, env))
+
+    def go_op(self, env, sign, *terms):
+        a, b = self.go_all(terms, env)
+        if sign == ":" and b == ("num", 0):
+            raise SlowFault()
+        if "left" in (a[0], b[0]):
+            return self.left("op", sign, a, b)
+        self.doing()
+        deeds = {"+": int.__add__, "-": int.__sub__, "*": int.__mul__, ":": int.__mod__, "<": int.__lt__,
+                 "=": int.__eq__}
+        return ("num", int(deeds[sign](a[1], b[1])) % 1000000)
+
+    def go_more(self, env, *terms):
+        a, b = self.go_all(terms, env)
+        if b[0] == "left":
+            return self.left("more", a, b)
+        self.doing()
+        return ("row", (a, *b[1]))
+
+    def of_row(self, env, form, term, deed):
+        a = self.go(term, env)
+        if a[0] == "left":
+            return self.left(form, a)
+        if form != "long" and a[1] == ():
+            raise SlowFault()
+        self.doing()
+        return deed(*a[1])
+
+    def go_first(self, env, term):
+        return self.of_row(env, "first", term, lambda first, *others: first)
+
+    def go_others(self, env, term):
+        return self.of_row(env, "others", term, lambda first, *others: ("row", others))
+
+    def go_long(self, env, term):
+        return self.of_row(env, "long", term, lambda *all_of_it: ("num", len(all_of_it)))
+
+    def go_match(self, env, term, arms):
+        a = self.go(term, env)
+        if a[0] == "left":
+            return self.left("match", a, arms, self.around(env))
+        self.doing()
+        (names, inner), = [arm[1:] for arm in arms if arm[0] == a[1]]
+        return self.go(inner, env + list(zip(names, a[2])))
+
+    def go_if(self, env, term, yes, no):
+        a = self.go(term, env)
+        if a[0] == "left":
+            return self.left("if", a, yes, no, self.around(env))
+        self.doing()
+        return self.go(yes if a != ("num", 0) else no, env)
+
+    def go_let(self, env, x, term, inner):
+        return self.go(inner, env + [(x, self.go(term, env))])
+
+    def go_fold(self, env, term, x, y, begun, inner):
+        a = self.go(term, env)
+        so_far = self.go(begun, env)
+        if a[0] == "left":
+            return self.left("fold", a, x, y, so_far, inner, self.around(env))
+        for thing in a[1]:
+            self.doing()
+            so_far = self.go(inner, env + [(x, thing), (y, so_far)])
+        return so_far
+
+    def go_call(self, env, f, terms):
+        things = self.go_all(terms, env)
+        self.doing()
+        params, inner = self.defs[f]
+        return self.go(inner, [(x, thing) for (x, kind), thing in zip(params, things)])
+
+
+def slow_run(program, inputs, most):
+    """What a run tells, or ("TooLong", most)."""
+    work = SlowRun(program, most)
+    params, term = work.defs[program[1][-1][0]]
+    try:
+        thing = work.go(term, [(x, each) for (x, kind), each in zip(params, inputs)])
+    except SlowFault:
+        return ("told", ("fault",))
+    except SlowTooLong:
+        return ("TooLong", most)
+    return ("told", ("sheet", (thing, tuple(work.rows)), work.many))
+
+
+def runs_to_do(seed, many, size=25, gap=0.1):
+    """Programs that may be run, each with inputs for it."""
+    rand = seeded(seed)
+    told = []
+    while len(told) < many:
+        program = opened(rand, Maker(rand, size, gap).program())
+        if within_bounds(program):
+            params = slow_all_kinds(program)[2][0]
+            if "any" not in texts_in(params):
+                told.append((program, tuple(make_of(rand, program, kind) for kind in params)))
+    return told

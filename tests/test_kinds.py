@@ -1,6 +1,7 @@
 import unittest
 
 from gapwork.errors import Clash
+from gapwork.filled import filled
 from gapwork.kinds import gap_kinds, is_of, last_kinds, look, open_kinds
 from gapwork.programs import at_hand, gaps
 from gapwork.reader import read_kind, read_program
@@ -53,7 +54,8 @@ CLASHES = [
     "(first 1)", "(first (u:))", "(+ 1 (first (row (row))))", "(others 1)", "(others (t: 1))", "(+ 1 (others (row)))",
     "(more (row) (others (row 1)))", "(long 1)", "(long (u:))", "(first (long (row)))",
     "(t: (row))", "(t: (u:))", "(v: 1 (row))", "(v: (u:) 1)", "(v: (u:) (row (u:)))", "(+ (u:) 1)", "(first (u:))",
-    "(match (u:) (v x y 1))", "(match 1 (t x 1) (u 1))", "(match (row) (v x y 1))", "(match (v: (u:) (row)) (t x 1) (u 1))",
+    "(match (u:) (v x y 1))", "(match 1 (t x 1) (u 1))", "(match (row) (v x y 1))",
+    "(match (v: (u:) (row)) (t x 1) (u 1))",
     "(match (u:) (t x x) (u (row)))", "(match (u:) (t x (first x)) (u 1))", "(match ?1 (v a b (+ a 1)))",
     "(match ?1 (v a b (+ (first b) b)))", "(+ 1 (match (u:) (t x (row)) (u (row))))",
     "(if (row) 1 1)", "(if (u:) 1 1)", "(if 1 1 (row))", "(if 1 (u:) 1)", "(if 1 (row 1) (row (row)))",
@@ -63,7 +65,8 @@ CLASHES = [
     "(fold (row (row)) z w 1 (+ z 1))", "(fold (row) z w 1 (first w))", "(fold (row 1) z w (row) (more w w))",
     "(first (fold (row) z w 1 w))", "(fold (row) z w (row) (row w))", "(fold ?1 z w 1 (+ z (first z)))",
     "(let z ?1 (row z (row z)))", "(let z ?1 (more z z))", "(let z ?1 (row (first z) z))", "(fold ?1 z w x (more w z))",
-    "(let z ?1 (if 1 z (row (row z))))", "(let z (row) (row z (row z)))", "(let z ?1 (let w (first z) (row w (row z))))",
+    "(let z ?1 (if 1 z (row (row z))))", "(let z (row) (row z (row z)))",
+    "(let z ?1 (let w (first z) (row w (row z))))",
     "(fold ?1 z w ?2 (let q (row w) (more z (row q (row z) w))))",
 ]
 
@@ -316,10 +319,12 @@ class IsOf(unittest.TestCase):
             ("0", "num", True), ("999999", "num", True), ("[]", "num", False), ("(u)", "num", False),
             ("[]", "(row num)", True), ("[1 2]", "(row num)", True), ("1", "(row num)", False),
             ("[]", "(row k)", True), ("[]", "(row (row (row l)))", True), ("[[]]", "(row num)", False),
-            ("[1 [] 3]", "(row num)", False), ("[1 3 (u)]", "(row num)", False), ("[[1] [] [2 3]]", "(row (row num))", True),
+            ("[1 [] 3]", "(row num)", False), ("[1 3 (u)]", "(row num)", False),
+            ("[[1] [] [2 3]]", "(row (row num))", True),
             ("[[1] [] [2 (u)]]", "(row (row num))", False), ("[[1] 2]", "(row (row num))", False),
-            ("(u)", "k", True), ("(t 1)", "k", True), ("(t)", "k", False), ("(u 1)", "k", False), ("(t 1 2)", "k", False),
-            ("(t [])", "k", False), ("(w (u))", "k", False), ("(zz)", "k", False), ("1", "k", False), ("[]", "k", False),
+            ("(u)", "k", True), ("(t 1)", "k", True), ("(t)", "k", False), ("(u 1)", "k", False),
+            ("(t 1 2)", "k", False), ("(t [])", "k", False), ("(w (u))", "k", False), ("(zz)", "k", False),
+            ("1", "k", False), ("[]", "k", False),
             ("(v (t 1) [2 3])", "l", True), ("(w (t 1))", "l", True), ("(v (u) [])", "l", True), ("(u)", "l", False),
             ("(v (v (u) []) [])", "l", False), ("(v (u) 1)", "l", False), ("(v (u) [(u)])", "l", False),
             ("(v [] (u))", "l", False), ("(v (u))", "l", False), ("(v (t (u)) [])", "l", False),
@@ -439,7 +444,9 @@ def fits(told, wanted):
 
 class Least(unittest.TestCase):
     def let_by(self, program, terms, kinds):
-        return outcome(look, slow_filled(program, terms, kinds)) == ("told", True)
+        whole = filled(program, tuple(terms.items()), tuple(kinds.items()))
+        self.assertEqual(whole, slow_filled(program, terms, kinds))
+        return outcome(look, whole) == ("told", True)
 
     def test_fillings_of_the_told_kinds_and_of_others(self):
         rand = seeded(58)
