@@ -30,10 +30,8 @@ class Work:
 
     def take(self, many):
         """Tells the things that were told last, in order, and keeps them no more."""
-        first = len(self.told) - many
-        things = self.told[first:]
-        del self.told[first:]
-        return things
+        things = [self.told.pop() for each in range(many)]
+        return things[::-1]
 
     def do_one(self):
         """Counts a doing."""

@@ -19,7 +19,7 @@ class Finding:
         self.defs = {}
 
 
-def ways(pairs):
+def unbound(pairs):
     """Tells kinds of terms right in a term that binds no names."""
     return [((), pair) for pair in pairs]
 
@@ -37,52 +37,52 @@ def in_number(finding, term, pair):
 def in_op(finding, term, pair):
     """An op of two numbers."""
     finding.letters.make_same(pair, NUM)
-    return ways([NUM, NUM])
+    return unbound([NUM, NUM])
 
 
 def in_row(finding, term, pair):
     """A row, all of whose terms have one kind."""
     inner = finding.letters.fresh()
     finding.letters.make_same(pair, row_of(inner))
-    return ways([inner for each in term[1]])
+    return unbound([inner for each in term[1]])
 
 
 def in_more(finding, term, pair):
     """A more."""
     inner = finding.letters.fresh()
     finding.letters.make_same(pair, row_of(inner))
-    return ways([inner, pair])
+    return unbound([inner, pair])
 
 
 def in_first(finding, term, pair):
     """A first."""
-    return ways([row_of(pair)])
+    return unbound([row_of(pair)])
 
 
 def in_others(finding, term, pair):
     """An others, which is a row as well as what it is of."""
     finding.letters.make_same(pair, row_of(finding.letters.fresh()))
-    return ways([pair])
+    return unbound([pair])
 
 
 def in_long(finding, term, pair):
     """A long, of a row of whatever kind."""
     finding.letters.make_same(pair, NUM)
-    return ways([row_of(finding.letters.fresh())])
+    return unbound([row_of(finding.letters.fresh())])
 
 
 def in_tag(finding, term, pair):
     """A tag."""
     name, inner = finding.tags[term[1]]
     finding.letters.make_same(pair, (0, ("kind", name)))
-    return ways([pair_of(kind) for kind in inner])
+    return unbound([pair_of(kind) for kind in inner])
 
 
 def in_match(finding, term, pair):
     """A match, whose arms all have its kind."""
     arms = term[2]
     name, inner = finding.tags[arms[0][0]]
-    told = ways([(0, ("kind", name))])
+    told = unbound([(0, ("kind", name))])
     for tag, names, body in arms:
         told.append(([pair_of(kind) for kind in finding.tags[tag][1]], pair))
     return told
@@ -90,7 +90,7 @@ def in_match(finding, term, pair):
 
 def in_if(finding, term, pair):
     """An if."""
-    return ways([NUM, pair, pair])
+    return unbound([NUM, pair, pair])
 
 
 def in_let(finding, term, pair):
@@ -109,7 +109,7 @@ def in_call(finding, term, pair):
     """A call, of a def that has its one kind wherever it is called."""
     params, told = finding.defs[term[1]]
     finding.letters.make_same(pair, told)
-    return ways(params)
+    return unbound(params)
 
 
 INNER = {
@@ -143,7 +143,8 @@ def param_pair(finding, kind):
 
 
 def found(program):
-    """Tells what is found of a program's kinds; refuses one whose kinds aren't right."""
+    """Tells what is found of a program's kinds; refuses one whose names or kinds aren't right."""
+    look_names(program)
     finding = Finding(program)
     for name, params, term in program[1]:
         pairs = [param_pair(finding, kind) for param, kind in params]
@@ -155,7 +156,6 @@ def found(program):
 
 def look(program):
     """Tells True of a program whose names and kinds are right; refuses it otherwise."""
-    look_names(program)
     found(program)
     return True
 

@@ -158,7 +158,17 @@ class Look(unittest.TestCase):
             ("kind k (t)\ndef f (x num) = (match x (t x 1))", ("WrongCount", "t")),
             ("def f = (+ 1 (row (match 1)))", ("NoName", "match")),
         ):
-            self.assertEqual(outcome(look, read_program(text)), wanted)
+            for asked in (look, gap_kinds, open_kinds, last_kinds):
+                self.assertEqual(outcome(asked, read_program(text)), wanted)
+
+    def test_many_gaps_and_open_kinds(self):
+        params = tuple((x, ("open", n)) for n, x in enumerate("abcdefghij"))
+        row = ("row", tuple(("gap", n) for n in range(200)))
+        program = ((), (("f", params, ("more", ("name", "j"), row)),))
+        self.assertIs(look(program), True)
+        names = tuple((x, ("any", n)) for n, x in enumerate("abcdefghij"))
+        self.assertEqual(gap_kinds(program), {n: (names, ("any", 9)) for n in range(200)})
+        self.assertEqual(open_kinds(program), {n: ("any", n) for n in range(10)})
 
     def test_made_right(self):
         for program in right_programs(51, 300):
