@@ -6,7 +6,7 @@ Nothing here calls itself: what is yet to be done waits in a list, as programs t
 
 from gapwork.errors import TooLong
 from gapwork.programs import bound_to
-from gapwork.terms import right_in
+from gapwork.terms import inner_terms
 from gapwork.words import WIDE
 
 
@@ -176,7 +176,7 @@ def go_round(work, task):
 def told_ahead(term):
     """Tells the terms right in a term that are gone through ahead of the term itself, in order."""
     form = term[0]
-    inner = [part for names, part in right_in(term)]
+    inner = inner_terms(term)
     if form == "fold":
         return inner[:2]
     return inner[:1] if form in ("match", "if", "let") else inner

@@ -3,6 +3,8 @@
 Nothing here calls itself, as kinds that are found and programs that are filled may be very deep.
 """
 
+from gapwork.trees import from_below
+
 # Where the terms right in a term stand in its tuple, of the forms that bind no names.
 PLACES = {
     "num": (), "name": (), "gap": (), "op": (2, 3), "more": (1, 2),
@@ -50,6 +52,11 @@ def right_in(term):
     return [((), term[place]) for place in PLACES[form]]
 
 
+def inner_terms(term):
+    """Tells a list of the terms right in a term, in order."""
+    return [inner for names, inner in right_in(term)]
+
+
 def with_inner(term, inner):
     """Tells a term with other terms, in order, in the place of those right in it."""
     form = term[0]
@@ -75,7 +82,7 @@ def parts(term):
     while waiting:
         here = waiting.pop()
         told.append(here)
-        waiting.extend([inner for names, inner in right_in(here)][::-1])
+        waiting.extend(inner_terms(here)[::-1])
     return told
 
 
@@ -86,7 +93,7 @@ def deep(term):
     while waiting:
         depth, here = waiting.pop()
         deepest = max(deepest, depth)
-        waiting.extend([(depth + 1, inner) for names, inner in right_in(here)])
+        waiting.extend([(depth + 1, inner) for inner in inner_terms(here)])
     return deepest
 
 
@@ -97,17 +104,7 @@ def gaps_in(term):
 
 def with_gaps_put(term, puts):
     """Tells a term with terms, by a dict from gaps' numbers, in the place of gaps; what is put isn't gone into."""
-    told = []
-    waiting = [(term, False)]
-    while waiting:
-        here, inner_told = waiting.pop()
-        inner = [part for names, part in right_in(here)]
-        if here[0] == "gap":
-            told.append(puts.get(here[1], here))
-        elif inner_told:
-            first = len(told) - len(inner)
-            told[first:] = [with_inner(here, told[first:])]
-        else:
-            waiting.append((here, True))
-            waiting.extend([(part, False) for part in inner[::-1]])
-    return told[0]
+    def make(here, inner):
+        return puts.get(here[1], here) if here[0] == "gap" else with_inner(here, inner)
+
+    return from_below(term, inner_terms, make)

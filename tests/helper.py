@@ -846,3 +846,120 @@ def runs_to_do(seed, many, size=25, gap=0.1):
             if "any" not in texts_in(params):
                 told.append((program, tuple(make_of(rand, program, kind) for kind in params)))
     return told
+
+
+def fresh_gaps(rand, program, many):
+    """Numbers of gaps of terms that don't stand in a program."""
+    stands = [part[1] for name, params, term in program[1] for part in slow_parts(term) if part[0] == "gap"]
+    return rand.sample([n for n in range(100) if n not in stands], many)
+
+
+def with_letters(kind, puts):
+    """A kind with kinds, by a dict from letters' numbers, in the place of its letter."""
+    if kind[0] == "row":
+        return ("row", with_letters(kind[1], puts))
+    return puts[kind[1]] if kind[0] == "any" else kind
+
+
+def defs_to_call(program, before, without_gaps):
+    """Of the defs ahead of one those of kinds without letters, as makers hold them; without gaps in them or in what
+    they call, where that is asked for."""
+    finder, told, with_gaps = SlowFinder(program), [], []
+    for name, params, term in program[1]:
+        if name == before:
+            break
+        kinds = finder.kinds.lettered(finder.defs[name][0] + [finder.defs[name][1]])
+        parts = slow_parts(term)
+        if any(part[0] == "gap" or (part[0] == "call" and part[1] in with_gaps) for part in parts):
+            with_gaps.append(name)
+        if "any" not in texts_in(tuple(kinds)) and not (without_gaps and name in with_gaps):
+            told.append((name, kinds[:-1], kinds[-1]))
+    return told
+
+
+def make_fillings(rand, program, some=0.6, gap=0.0, size=8, own=0.0):
+    """Fillings of some gaps and open kinds by which a program stays let by; with gaps again where gap isn't 0."""
+    of_gaps, of_opens, last = slow_all_kinds(program)
+    maker = Maker(rand, gap=gap, most_gaps=0)
+    maker.kinds = list(program[0])
+    maker.tags = {tag: parts for name, tags in program[0] for tag, parts in tags}
+    puts = {n: maker.any_kind() for n in range(20)}
+    fresh = fresh_gaps(rand, program, 10)
+    terms = []
+    for name, params, body in program[1]:
+        maker.defs = defs_to_call(program, name, not gap)
+        for n in [part[1] for part in slow_parts(body) if part[0] == "gap"]:
+            if rand.random() < some:
+                env = {x: with_letters(kind, puts) for x, kind in of_gaps[n][0]}
+                maker.free_gaps = ([fresh.pop() for k in range(2)] if len(fresh) > 1 and gap else [])
+                maker.free_gaps += [n] if rand.random() < own else []
+                terms.append((n, maker.term(with_letters(of_gaps[n][1], puts), env, rand.randint(1, size))))
+    kinds = [(n, with_letters(kind, puts)) for n, kind in of_opens.items() if rand.random() < some]
+    rand.shuffle(terms)
+    return tuple(terms), tuple(kinds)
+
+
+def fillings(text, read):
+    """Fillings by rows `N TEXT`, parted by semicolons."""
+    pairs = [each.split(" ", 1) for each in text.split("; ")] if text else []
+    return tuple((int(n), read(put)) for n, put in pairs)
+
+
+def slow_musts(program, wants, most):
+    """What gaps must tell by wants, with all that is wanted of a row in a list."""
+    told = []
+    for k, (inputs, answer) in enumerate(wants):
+        came = slow_run(program, inputs, most)
+        if came[0] != "told":
+            return came
+        if came[1] == ("fault",):
+            return ("told", ("never", k))
+        thing, rows = came[1][1]
+        wanted = {at: [] for at in range(len(rows))}
+        verdicts = slow_want(wanted, thing, answer)
+        for at, row in reversed(list(enumerate(rows))):
+            verdicts |= slow_back(wanted, at, row)
+            if row[0] == "gap":
+                told.append((row[1], k, at, row[2], wanted[at][0] if wanted[at] else None))
+        for word in ("never", "open"):
+            if word in verdicts:
+                return ("told", (word, k))
+    return ("told", ("musts", [(n, around, thing) for n, k, at, around, thing in sorted(told, key=lambda x: x[:3])]))
+
+
+def slow_want(wanted, thing, answer):
+    """What is wrong where a thing is to be the answer; what is wanted of rows is kept."""
+    if thing[0] == "left":
+        wanted[thing[1]].append(answer)
+        return set()
+    if thing[0] == "num" or answer[0] == "num":
+        return set() if thing == answer else {"never"}
+    if thing[:-1] != answer[:-1] or len(thing[-1]) != len(answer[-1]):
+        return {"never"}
+    return set().union(*[slow_want(wanted, one, other) for one, other in zip(thing[-1], answer[-1])])
+
+
+def slow_back(wanted, at, row):
+    """What is wrong at a row with what is wanted of it."""
+    if any(each != wanted[at][0] for each in wanted[at]):
+        return {"never"}
+    if row[0] == "gap":
+        return {"open"} if "left" in texts_in(tuple(thing for name, thing in row[2])) else set()
+    if not wanted[at]:
+        quiet = row[0] in ("more", "long") or (row[0] == "op" and row[1] != ":")
+        return set() if quiet else {"open"}
+    told = wanted[at][0]
+    if row[0] == "more":
+        if told[1] == ():
+            return {"never"}
+        first, *others = told[1]
+        return slow_want(wanted, row[1], first) | slow_want(wanted, row[2], ("row", tuple(others)))
+    if row[0] == "op" and row[1] in "+-" and "num" in (row[2][0], row[3][0]):
+        # Tried: the number that the side which isn't there must be is one of these.
+        side = 2 if row[2][0] == "left" else 3
+        here = row[5 - side][1]
+        for n in ((told[1] - here) % 1000000, (told[1] + here) % 1000000, (here - told[1]) % 1000000):
+            a, b = (n, here) if side == 2 else (here, n)
+            if (a + b if row[1] == "+" else a - b) % 1000000 == told[1]:
+                return slow_want(wanted, row[side], ("num", n))
+    return {"open"}

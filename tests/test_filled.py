@@ -6,17 +6,11 @@ from gapwork.kinds import look
 from gapwork.programs import gaps
 from gapwork.reader import read_kind, read_program, read_term
 from gapwork.writer import program_text
-from tests.helper import make_kind, make_program, make_term, outcome, rows_of, seeded, slow_filled
+from tests.helper import fillings, make_kind, make_program, make_term, outcome, rows_of, seeded, slow_filled
 
 PROGRAM = """kind k (t num)
 def f (x ?1) (y (row (row ?2))) = (+ ?1 (let z ?2 (if z ?3 (row ?4))))
 def g (x num) (y ?3) = (match ?5 (t x (fold ?6 y z ?7 (call f ?8 ?9))))"""
-
-
-def fillings(text, read):
-    """Fillings by rows `N TEXT`, parted by semicolons."""
-    pairs = [each.split(" ", 1) for each in text.split("; ")] if text else []
-    return tuple((int(n), read(put)) for n, put in pairs)
 
 
 def ask(program, terms, kinds=""):
