@@ -1,5 +1,6 @@
 """The kinds of a program, found: whether they are right, and the least that gaps and open kinds must have."""
 
+from gapwork.errors import NoGap
 from gapwork.names import look_names
 from gapwork.programs import bound_to, tags_of
 from gapwork.terms import right_in
@@ -174,6 +175,14 @@ def all_kinds(program):
 def gap_kinds(program):
     """Tells a dict from the numbers of gaps of terms to (names, kind): the names at hand with their kinds, its own."""
     return all_kinds(program)[0]
+
+
+def kind_of_gap(program, n):
+    """Tells (names, kind) of one gap of a term."""
+    told = gap_kinds(program)
+    if n not in told:
+        raise NoGap(n)
+    return told[n]
 
 
 def open_kinds(program):

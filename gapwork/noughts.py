@@ -1,8 +1,8 @@
 """What can be put at gaps: whether a term can, a nought for each, and a term that can't."""
 
-from gapwork.errors import GapError, NoGap
+from gapwork.errors import GapError
 from gapwork.filled import filled
-from gapwork.kinds import gap_kinds, look, open_kinds
+from gapwork.kinds import gap_kinds, kind_of_gap, look, open_kinds
 from gapwork.terms import in_rows, innermost, kind_deep
 
 
@@ -48,10 +48,7 @@ def noughts(program):
 
 def breaker(program, n):
     """Tells a term without names, calls and gaps that can't be put at a gap; None where there is none."""
-    told = gap_kinds(program)
-    if n not in told:
-        raise NoGap(n)
-    names, kind = told[n]
+    names, kind = kind_of_gap(program, n)
     if kind[0] == "any":
         return None
     return ("row", ()) if kind == "num" else ("num", 0)

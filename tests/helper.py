@@ -4,6 +4,8 @@ import random
 import re
 
 from gapwork.errors import GapError
+from gapwork.reader import read_term
+from gapwork.thingtexts import read_thing
 
 KEPT = "num row kind def more first others long match if let fold call gap in world fault left".split()
 NAMES = ("a", "b", "x", "y", "zz", "abcdef", "op", "tag", "name", "any", "to", "nums", "ifs", "lef", "defs")
@@ -963,3 +965,146 @@ def slow_back(wanted, at, row):
             if (a + b if row[1] == "+" else a - b) % 1000000 == told[1]:
                 return slow_want(wanted, row[side], ("num", n))
     return {"open"}
+
+
+class BruteSearch:
+    """All terms of a search up to a size, none left out for what it tells, each run by itself."""
+
+    def __init__(self, program, n, musts, numbers, size):
+        self.program, self.musts = program, musts
+        self.names, self.goal = slow_all_kinds(program)[0][n]
+        self.numbers = numbers
+        self.kinds = []
+        for kind in ["num", self.goal] + [kind for name, kind in self.names]:
+            self.come_up(kind)
+        # By kinds and sizes: a dict from terms to what they tell.
+        self.terms = {}
+        for now in range(1, size + 1):
+            for kind in self.kinds:
+                told = {term: self.values(term) for term in self.of_size(kind, now)}
+                self.terms[kind, now] = {term: values for term, values in told.items()
+                                         if any(value != ("fault",) for value in values)}
+
+    def come_up(self, kind):
+        if kind not in self.kinds:
+            self.kinds.append(kind)
+            for tag, parts in dict(self.program[0])[kind[1]] if kind[0] == "kind" else [("", kind[1:])]:
+                for part in parts if kind != "num" else ():
+                    self.come_up(part)
+
+    def value(self, term, around):
+        try:
+            return SlowRun(self.program, 10 ** 6).go(term, list(around))
+        except SlowFault:
+            return ("fault",)
+
+    def values(self, term):
+        return tuple(self.value(term, around) for n, around, thing in self.musts)
+
+    def all_of(self, kinds, total):
+        """All tuples of terms of these kinds, of this many parts in all."""
+        if not kinds:
+            return [()] if total == 0 else []
+        return [(first, *others) for size in range(1, total + 1) for first in self.terms.get((kinds[0], size), ())
+                for others in self.all_of(kinds[1:], total - size)]
+
+    def of_size(self, kind, size):
+        told = []
+        if size == 1:
+            told += [("name", name) for name, own in self.names if own == kind]
+            told += [("num", n) for n in self.numbers if kind == "num"]
+            told += [("row", ())] if kind[0] == "row" else []
+        if kind == "num":
+            told += [("op", sign, *pair) for sign in OPS for pair in self.all_of(["num", "num"], size - 1)]
+            told += [("long", term) for own in self.kinds if own[0] == "row"
+                     for term, in self.all_of([own], size - 1)]
+        if ("row", kind) in self.kinds:
+            told += [("first", term) for term, in self.all_of([("row", kind)], size - 1)]
+        if kind[0] == "row":
+            told += [("others", term) for term, in self.all_of([kind], size - 1)]
+            told += [("more", *pair) for pair in self.all_of([kind[1], kind], size - 1)]
+        if kind[0] == "kind":
+            told += [("tag", tag, terms) for tag, parts in dict(self.program[0])[kind[1]]
+                     for terms in self.all_of(list(parts), size - 1)]
+        return told + [("if", *three) for three in self.all_of(["num", kind, kind], size - 1)]
+
+    def right(self, values):
+        return all(value != ("fault",) and thing in (None, value)
+                   for value, (n, around, thing) in zip(values, self.musts))
+
+    def least(self, size):
+        """By kinds and what is told: the least size, up to this one."""
+        told = {}
+        for (kind, now), terms in self.terms.items():
+            for values in terms.values():
+                if now <= size:
+                    told.setdefault((kind, values), now)
+        return told
+
+    def found(self, size):
+        """The least size of a term that is searched for, or None."""
+        for now in range(1, size + 1):
+            if any(self.right(values) for values in self.terms[self.goal, now].values()):
+                return now
+        return None
+
+    def paper_holds(self, size, rows):
+        """What point 26 says of a paper, word by word."""
+        sizes = [row[3] for row in rows]
+        there = {}
+        for kind, values, term, own in rows:
+            if self.terms.get((kind, own), {}).get(term) != values or not 1 <= own <= size:
+                return False
+            if (kind, values) in there or (kind == self.goal and self.right(values)):
+                return False
+            there[kind, values] = own
+        known = [row[2] for row in rows]
+        for (kind, now), terms in self.terms.items():
+            for term, values in terms.items():
+                if now <= size and all(inner in known for inner in slow_inner(term)):
+                    if there.get((kind, values), now + 1) > now:
+                        return False
+        return sizes == sorted(sizes)
+
+
+def searches_to_do(seed, many):
+    """Programs, a gap of each whose kinds have no letters, musts for it, numbers."""
+    rand = seeded(seed)
+    told = []
+    for program in right_programs(rand.randrange(10 ** 6), 40 * many, size=12, gap=0.2, opens=False):
+        kinds = slow_all_kinds(program)[0]
+        fitting = [n for n in kinds if "any" not in texts_in(kinds[n])]
+        if not fitting or len(told) == many:
+            continue
+        names, kind = kinds[fitting[0]]
+        wanted = []
+        for k in range(rand.randint(1, 3)):
+            around = tuple((name, make_of(rand, program, own, 3)) for name, own in names)
+            thing = make_of(rand, program, kind, 2) if rand.random() < 0.8 else None
+            # Often one that a name tells, so that there is something to be found.
+            same = [each for (name, own), (name, each) in zip(names, around) if own == kind]
+            wanted.append((fitting[0], around, rand.choice(same) if same and rand.random() < 0.4 else thing))
+        numbers = tuple(sorted(rand.sample((0, 1, 2, 7, 999999), rand.randrange(3))))
+        told.append((program, fitting[0], wanted, numbers))
+    return told
+
+
+def must_of(names, text):
+    """A must of gap 1 by things for these names and the wanted thing, or `any`; blanks in them as `_`."""
+    *inputs, to, wanted = text.split(" ")
+    assert to == "to"
+    around = tuple((name, read_thing(each.replace("_", " "))) for name, each in zip(names, inputs, strict=True))
+    return (1, around, None if wanted == "any" else read_thing(wanted.replace("_", " ")))
+
+
+def things(texts):
+    return [read_thing(text) for text in texts]
+
+
+def around(**names):
+    """The names at hand, in order, with the texts of their things."""
+    return tuple((name, read_thing(text)) for name, text in names.items())
+
+
+def arms(text):
+    return read_term(f"(match 0 {text})")[2]

@@ -6,26 +6,14 @@ from gapwork.kinds import is_of, last_kinds, look
 from gapwork.reader import read_program, read_term
 from gapwork.runs import run
 from gapwork.thingtexts import read_thing
-from tests.helper import (exact_term, make_of, outcome, runs_to_do, seeded, slow_all_kinds, slow_run, texts_in)
+from tests.helper import (arms, around, exact_term, make_of, outcome, runs_to_do, seeded, slow_all_kinds, slow_run,
+                          texts_in, things)
 
 KINDS = "kind k (t num) (u) (w (row num) num)\n"
 
 
 def thing(text):
     return read_thing(text)
-
-
-def things(texts):
-    return [read_thing(text) for text in texts]
-
-
-def around(**names):
-    """The names at hand, in order, with the texts of their things."""
-    return tuple((name, read_thing(text)) for name, text in names.items())
-
-
-def arms(text):
-    return read_term(f"(match 0 {text})")[2]
 
 
 def may_be_run(text, *inputs):

@@ -10,22 +10,11 @@ from gapwork.runs import run
 from gapwork.sheets import sheet_filled
 from gapwork.terms import with_gaps_put
 from gapwork.thingtexts import read_thing, thing_text
-from tests.helper import fillings, make_fillings, outcome, runs_to_do, seeded, slow_run, texts_in
+from tests.helper import (arms, around, fillings, make_fillings, outcome, runs_to_do, seeded, slow_run, texts_in,
+                          things)
 
 KINDS = "kind k (t num) (u) (w (row num) num)\n"
 MANY = 3000
-
-
-def things(texts):
-    return [read_thing(text) for text in texts]
-
-
-def around(**names):
-    return tuple((name, read_thing(text)) for name, text in names.items())
-
-
-def arms(text):
-    return read_term(f"(match 0 {text})")[2]
 
 
 def begun(text, *inputs):
